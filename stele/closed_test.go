@@ -1,0 +1,71 @@
+package stele_test
+
+import (
+	"math"
+	"strings"
+	"testing"
+
+	"stele/api"
+	"stele/stele"
+)
+
+func veryGreatNumbers() []int {
+	return []int{math.MinInt, math.MinInt + 1, math.MinInt32, -65536, -500, -1, 0, 1, 2, 3, 4, 500, 501,
+		65535, 65536, 65537, math.MaxInt32, math.MaxInt32 + 1, 1 << 62, math.MaxInt - 1, math.MaxInt}
+}
+
+func TestALogThatNewLogDidNotMake(t *testing.T) {
+	made := logOf(t, "a", "b", "c")
+	copied := *made
+	var none *stele.Log
+	for name, l := range map[string]*stele.Log{"nil": none, "zero": {}, "new": new(stele.Log), "copied": &copied} {
+		for _, event := range []string{"", "a", strings.Repeat("x", 51)} {
+			if number, err := l.Append(event); number != 0 || err != api.ErrClosed {
+				t.Errorf("P1: %s: Append of %d bytes = %d, %d", name, len(event), number, err)
+			}
+		}
+		if l.Len() != 0 {
+			t.Errorf("P1: %s: Len = %d", name, l.Len())
+		}
+		for _, n := range veryGreatNumbers() {
+			for _, got := range append(askVersion(l, n, n), askVersion(l, 1, n)...) {
+				if got.err != api.ErrClosed || !got.nothing() {
+					t.Errorf("P1: %s: %s = %s, %d", name, got.call, got.told, got.err)
+				}
+			}
+		}
+	}
+	if root, err := made.Root(3); made.Len() != 3 || root != (version{"a", "b", "c"}).root() || err != api.OK {
+		t.Errorf("P1: the log that was copied: Len %d, Root(3) = %d, %d", made.Len(), root, err)
+	}
+}
+
+func TestNewLogIsOpen(t *testing.T) {
+	l := stele.NewLog()
+	if l == nil {
+		t.Fatal("P4: NewLog gives nil")
+	}
+	if _, err := l.Root(1); err != api.ErrArg {
+		t.Errorf("P1: Root(1) of a new log: %d, want %d", err, api.ErrArg)
+	}
+}
+
+func TestVeryGreatNumbers(t *testing.T) {
+	for _, l := range []*stele.Log{stele.NewLog(), logOf(t, "a", "b", "c"), logOf(t, someEvents(api.MaxLog)...)} {
+		length := l.Len()
+		for _, n := range veryGreatNumbers() {
+			for _, a := range veryGreatNumbers() {
+				if n >= 1 && n <= length && a >= 1 && a < n {
+					continue
+				}
+				for k, got := range askVersion(l, a, n) {
+					bad := n < 1 || n > length
+					bad = bad || k == 2 && (a < 0 || a >= n) || k == 3 && (a < 1 || a > n)
+					if bad && (got.err != api.ErrArg || !got.nothing()) || !bad && got.err != api.OK {
+						t.Fatalf("P1: with %d events %s = %s, %d", length, got.call, got.told, got.err)
+					}
+				}
+			}
+		}
+	}
+}

@@ -1,0 +1,106 @@
+package tree
+
+import (
+	"slices"
+
+	"stele/api"
+	"stele/sum"
+	"stele/wire"
+)
+
+// The first bytes of preimages; they are not the kinds of nodes in a message.
+const (
+	leafMark  = 0
+	twoMark   = 1
+	aloneMark = 2
+)
+
+// Node is a node of a tree. It never changes once it is made, so goroutines
+// may read one tree at the same time.
+type Node interface {
+	// Digest gives the sum of the node's preimage.
+	Digest() int
+	// Prune gives what a proof tells of the node and of those below it.
+	Prune(rule Rule) []api.Node
+}
+
+// The digest is worked out once, when a node is made: the proofs of a version
+// ask for it again and again.
+
+type leaf struct {
+	Stretch
+	digest int
+	event  string
+}
+
+type two struct {
+	Stretch
+	digest      int
+	left, right Node
+}
+
+type alone struct {
+	Stretch
+	digest int
+	only   Node
+}
+
+// Build gives the tree of a version, which has at least one event.
+func Build(events []string) Node {
+	return build(Whole(len(events)), events)
+}
+
+func build(s Stretch, events []string) Node {
+	if s.Depth == 0 {
+		return newLeaf(s, events[s.Start])
+	}
+	left := build(s.Left(), events)
+	if s.Right().Beyond(len(events)) {
+		return newAlone(s, left)
+	}
+	return newTwo(s, left, build(s.Right(), events))
+}
+
+func newLeaf(s Stretch, event string) leaf {
+	digest := sum.Of([]byte{leafMark}, []byte(event))
+	return leaf{Stretch: s, digest: digest, event: event}
+}
+
+func newTwo(s Stretch, left Node, right Node) two {
+	digest := sum.Of([]byte{twoMark}, wire.Two(left.Digest()), wire.Two(right.Digest()))
+	return two{Stretch: s, digest: digest, left: left, right: right}
+}
+
+func newAlone(s Stretch, only Node) alone {
+	digest := sum.Of([]byte{aloneMark}, wire.Two(only.Digest()))
+	return alone{Stretch: s, digest: digest, only: only}
+}
+
+func (l leaf) Digest() int  { return l.digest }
+func (t two) Digest() int   { return t.digest }
+func (a alone) Digest() int { return a.digest }
+
+func (l leaf) Prune(rule Rule) []api.Node {
+	if l.LeftOut(rule) {
+		return stub(l.digest)
+	}
+	return []api.Node{{Kind: api.Leaf, Event: l.event}}
+}
+
+func (t two) Prune(rule Rule) []api.Node {
+	if t.LeftOut(rule) {
+		return stub(t.digest)
+	}
+	return slices.Concat([]api.Node{{Kind: api.Two}}, t.left.Prune(rule), t.right.Prune(rule))
+}
+
+func (a alone) Prune(rule Rule) []api.Node {
+	if a.LeftOut(rule) {
+		return stub(a.digest)
+	}
+	return slices.Concat([]api.Node{{Kind: api.Alone}}, a.only.Prune(rule))
+}
+
+func stub(digest int) []api.Node {
+	return []api.Node{{Kind: api.Stub, Digest: digest}}
+}
