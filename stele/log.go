@@ -4,8 +4,8 @@ import (
 	"strings"
 
 	"stele/api"
+	"stele/codec"
 	"stele/tree"
-	"stele/wire"
 )
 
 // Log is a log of events.
@@ -62,7 +62,7 @@ func (l *Log) Commitment(n int) ([]byte, api.Errno) {
 		return nil, err
 	}
 	m := api.Message{Kind: api.Commitment, N: n, Root: l.version(n).Digest()}
-	return wire.Message(m), api.OK
+	return codec.Write(m), api.OK
 }
 
 // Member proves that an event stands in a version (P5).
@@ -111,12 +111,12 @@ func (l *Log) version(n int) tree.Node { return tree.Build(l.events[:n]) }
 
 func member(version tree.Node, i int, n int) []byte {
 	pruned := version.Prune(tree.MemberRule(i))
-	return wire.Message(api.Message{Kind: api.Member, M: i, N: n, Tree: pruned})
+	return codec.Write(api.Message{Kind: api.Member, M: i, N: n, Tree: pruned})
 }
 
 func growth(version tree.Node, m int, n int) []byte {
 	pruned := version.Prune(tree.GrowthRule(m))
-	return wire.Message(api.Message{Kind: api.Growth, M: m, N: n, Root: version.Digest(), Tree: pruned})
+	return codec.Write(api.Message{Kind: api.Growth, M: m, N: n, Root: version.Digest(), Tree: pruned})
 }
 
 // proofs makes all member proofs at the same time, and gathers them in order.

@@ -71,29 +71,39 @@ func (v version) commitment() []byte {
 func (v version) member(i int) []byte {
 	message := append([]byte{3}, pairOfBytes(i)...)
 	message = append(message, pairOfBytes(len(v))...)
-	return append(message, v.pruned(0, depthByWords(len(v)), func(p, d int) bool {
-		for event := p; event < p+1<<d && event < len(v); event++ {
-			if event == i {
-				return false
-			}
-		}
-		return true
-	})...)
+	return append(message, v.pruned(0, depthByWords(len(v)), memberOut(i, len(v)))...)
 }
 
 func (v version) growth(m int) []byte {
 	message := append([]byte{2}, pairOfBytes(m)...)
 	message = append(message, pairOfBytes(len(v))...)
 	message = append(message, pairOfBytes(v.root())...)
-	return append(message, v.pruned(0, depthByWords(len(v)), func(p, d int) bool {
+	return append(message, v.pruned(0, depthByWords(len(v)), growthOut(m, len(v)))...)
+}
+
+// memberOut and growthOut tell which nodes a proof in version n leaves out.
+
+func memberOut(i, n int) func(p, d int) bool {
+	return func(p, d int) bool {
+		for event := p; event < p+1<<d && event < n; event++ {
+			if event == i {
+				return false
+			}
+		}
+		return true
+	}
+}
+
+func growthOut(m, n int) func(p, d int) bool {
+	return func(p, d int) bool {
 		below := 0
-		for event := p; event < p+1<<d && event < len(v); event++ {
+		for event := p; event < p+1<<d && event < n; event++ {
 			if event < m {
 				below++
 			}
 		}
 		return below == 1<<d || below == 0
-	})...)
+	}
 }
 
 // someEvents gives events of all lengths, with all bytes, some of them twice.

@@ -55,7 +55,7 @@ func build(s Stretch, events []string) Node {
 		return newLeaf(s, events[s.Start])
 	}
 	left := build(s.Left(), events)
-	if s.Right().Beyond(len(events)) {
+	if s.Single(len(events)) {
 		return newAlone(s, left)
 	}
 	return newTwo(s, left, build(s.Right(), events))

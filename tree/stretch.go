@@ -1,7 +1,12 @@
 // Package tree: the tree of a log's version, and which nodes a proof leaves out.
 package tree
 
-import "math/bits"
+import (
+	"math/bits"
+	"slices"
+
+	"stele/api"
+)
 
 // Stretch is what a node stands for: the events from Start on, 2 to the power
 // Depth of them, as far as the version goes.
@@ -36,6 +41,10 @@ func (s Stretch) Below(m int) bool { return s.End() <= m }
 // Beyond tells whether the stretch has no event in version m.
 func (s Stretch) Beyond(m int) bool { return s.Start >= m }
 
+// Single tells whether a node of a depth above 0 has but one node below it in
+// version n, as there is no event for the other.
+func (s Stretch) Single(n int) bool { return s.Right().Beyond(n) }
+
 // LeftOut tells whether a proof with that rule leaves the node out.
 func (s Stretch) LeftOut(rule Rule) bool { return rule(s) }
 
@@ -51,4 +60,20 @@ func MemberRule(i int) Rule {
 // GrowthRule is the rule of a growth proof from version m on.
 func GrowthRule(m int) Rule {
 	return func(s Stretch) bool { return s.Below(m) || s.Beyond(m) }
+}
+
+// Kinds gives the kinds of the nodes of a proof in version n, in order: they
+// hang on no event, so they are known ahead of what a message says.
+func Kinds(n int, rule Rule) []int { return kinds(Whole(n), n, rule) }
+
+func kinds(s Stretch, n int, rule Rule) []int {
+	switch {
+	case s.LeftOut(rule):
+		return []int{api.Stub}
+	case s.Depth == 0:
+		return []int{api.Leaf}
+	case s.Single(n):
+		return slices.Concat([]int{api.Alone}, kinds(s.Left(), n, rule))
+	}
+	return slices.Concat([]int{api.Two}, kinds(s.Left(), n, rule), kinds(s.Right(), n, rule))
 }

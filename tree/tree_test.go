@@ -70,3 +70,34 @@ func TestPrune(t *testing.T) {
 		}
 	}
 }
+
+// kindsIn gives the kinds of a list of nodes.
+func kindsIn(nodes []api.Node) []int {
+	kinds := make([]int, len(nodes))
+	for i, n := range nodes {
+		kinds[i] = n.Kind
+	}
+	return kinds
+}
+
+func TestKindsAreThoseOfAPrunedTree(t *testing.T) {
+	for _, n := range []int{1, 2, 3, 4, 5, 6, 7, 8, 9, 15, 16, 17, 31, 33, 100} {
+		root := Build(make([]string, n))
+		for i := range n {
+			for name, rule := range map[string]Rule{"member": MemberRule(i), "growth": GrowthRule(i + 1)} {
+				if got, want := Kinds(n, rule), kindsIn(root.Prune(rule)); !slices.Equal(got, want) {
+					t.Errorf("%s %d in %d: the kinds %v, want %v", name, i, n, got, want)
+				}
+			}
+		}
+	}
+}
+
+func TestSingle(t *testing.T) {
+	s := Stretch{Start: 4, Depth: 2}
+	for n := 5; n <= 12; n++ {
+		if s.Single(n) != (n <= 6) {
+			t.Errorf("%v in version %d: single %v", s, n, s.Single(n))
+		}
+	}
+}

@@ -2,10 +2,7 @@ package wire
 
 import (
 	"bytes"
-	"strings"
 	"testing"
-
-	"stele/api"
 )
 
 func TestTwo(t *testing.T) {
@@ -34,23 +31,10 @@ func TestJoin(t *testing.T) {
 	}
 }
 
-func TestMessage(t *testing.T) {
-	long := strings.Repeat("x", api.MaxEvent)
-	for _, c := range []struct {
-		message api.Message
-		want    []byte
-	}{
-		{api.Message{Kind: api.Commitment, N: 1, Root: 883}, []byte{1, 0, 1, 3, 115}},
-		{api.Message{Kind: api.Commitment, N: 500, Root: 65520}, []byte{1, 1, 244, 255, 240}},
-		{api.Message{Kind: api.Growth, M: 1, N: 2, Root: 258, Tree: []api.Node{{Kind: api.Two}, {Kind: api.Stub, Digest: 883}, {Kind: api.Stub, Digest: 884}}},
-			[]byte{2, 0, 1, 0, 2, 1, 2, 2, 0, 3, 115, 0, 3, 116}},
-		{api.Message{Kind: api.Member, M: 0, N: 1, Tree: []api.Node{{Kind: api.Leaf, Event: "a"}}}, []byte{3, 0, 0, 0, 1, 1, 1, 97}},
-		{api.Message{Kind: api.Member, M: 2, N: 3, Tree: []api.Node{{Kind: api.Two}, {Kind: api.Stub}, {Kind: api.Alone}, {Kind: api.Leaf}}},
-			[]byte{3, 0, 2, 0, 3, 2, 0, 0, 0, 3, 1, 0}},
-		{api.Message{Kind: api.Member, M: 0, N: 1, Tree: []api.Node{{Kind: api.Leaf, Event: long}}}, append([]byte{3, 0, 0, 0, 1, 1, 50}, long...)},
-	} {
-		if got := Message(c.message); !bytes.Equal(got, c.want) {
-			t.Errorf("Message(%v) = %v, want %v", c.message, got, c.want)
+func TestNumber(t *testing.T) {
+	for number := range 1 << 16 {
+		if got := Number(Two(number)); got != number {
+			t.Fatalf("Number(Two(%d)) = %d", number, got)
 		}
 	}
 }
