@@ -69,3 +69,23 @@ func TestVeryGreatNumbers(t *testing.T) {
 		}
 	}
 }
+
+func TestAnAuditorThatNewAuditorDidNotMake(t *testing.T) {
+	v := letters("abc")
+	made := stele.NewAuditor()
+	takeAll(t, made, v.commitment(), v.member(1))
+	copied := *made
+	var none *stele.Auditor
+	for name, a := range map[string]*stele.Auditor{"nil": none, "zero": {}, "new": new(stele.Auditor), "copied": &copied} {
+		for _, message := range [][]byte{nil, lay(4), make([]byte, 4001), v.commitment(), v.growth(3), v.member(2)} {
+			if err := a.Take(message); err != api.ErrClosed {
+				t.Errorf("P1: %s: Take of %d bytes = %d", name, len(message), err)
+			}
+			if len(a.Versions()) != 0 || len(a.Events()) != 0 {
+				t.Errorf("P1: %s: known are %v, %v", name, a.Versions(), a.Events())
+			}
+		}
+	}
+	holdKnown(t, made, []api.Version{{N: 3, Root: v.root()}}, []api.Entry{{Index: 1, Event: "b"}})
+	takeAll(t, made, v.member(2))
+}

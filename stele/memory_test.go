@@ -3,6 +3,7 @@ package stele_test
 import (
 	"bytes"
 	"fmt"
+	"slices"
 	"testing"
 	"unsafe"
 
@@ -117,4 +118,84 @@ func TestLogsKnowNothingOfEachOther(t *testing.T) {
 	}
 	holdVersion(t, first, firstEvents, []int{0, 9, 19})
 	holdVersion(t, second, secondEvents, []int{0, 4, 9})
+}
+
+func TestTakeKeepsAndWritesNothing(t *testing.T) {
+	v := version(someEvents(9))
+	a := stele.NewAuditor()
+	words := newAuditorByWords()
+	for _, message := range [][]byte{v[:6].commitment(), v[:6].member(4), v.growth(6), v.member(8), v.member(3), v.growth(9), lay(7), v.commitment()} {
+		room := append(bytes.Clone(message), "what stands behind"...)
+		before := bytes.Clone(room)
+		if got, want := a.Take(room[:len(message)]), words.take(message); got != want {
+			t.Errorf("P8: Take of %v = %d, want %d", message, got, want)
+		}
+		if !bytes.Equal(room, before) {
+			t.Errorf("P2: Take wrote into a message or behind it: %v, before %v", room, before)
+		}
+		spoil(room)
+		holdKnown(t, a, words.versionsByN(), words.eventsInOrder())
+	}
+}
+
+func TestWhatIsKnownIsNewMemory(t *testing.T) {
+	v := version(someEvents(12))
+	a := stele.NewAuditor()
+	words := newAuditorByWords()
+	words.take(v[:5].commitment())
+	takeAll(t, a, v[:5].commitment())
+	for _, message := range [][]byte{v[:5].member(4), v[:7].growth(5), v[:7].member(2), v[:11].growth(7), v.growth(11), v.member(9), v.member(0)} {
+		versions, events := a.Versions(), a.Events()
+		again, eventsAgain := a.Versions(), a.Events()
+		spoilVersions(versions)
+		spoilEntries(events)
+		if !slices.Equal(again, words.versionsByN()) || !slices.Equal(eventsAgain, words.eventsInOrder()) {
+			t.Errorf("P2: two answers share memory: %v, %v", again, eventsAgain)
+		}
+		holdKnown(t, a, words.versionsByN(), words.eventsInOrder())
+		spoilVersions(again)
+		spoilEntries(eventsAgain)
+		words.take(message)
+		takeAll(t, a, message)
+		holdKnown(t, a, words.versionsByN(), words.eventsInOrder())
+		if !slices.Equal(versions, slices.Repeat([]api.Version{{N: -7, Root: -7}}, len(versions))) {
+			t.Errorf("P2: Take wrote into an answer: %v", versions)
+		}
+	}
+}
+
+// spoilVersions and spoilEntries write over a list and its spare room.
+
+func spoilVersions(list []api.Version) {
+	list = list[:cap(list)]
+	for i := range list {
+		list[i] = api.Version{N: -7, Root: -7}
+	}
+}
+
+func spoilEntries(list []api.Entry) {
+	list = list[:cap(list)]
+	for i := range list {
+		list[i] = api.Entry{Index: -7, Event: "spoilt"}
+	}
+}
+
+func TestAuditorsKnowNothingOfEachOther(t *testing.T) {
+	one, other := version(someEvents(9)), letters("abcdefghi")
+	p, q := newPair(), newPair()
+	p.take(t, one[:4].commitment())
+	q.take(t, other[:3].commitment())
+	for i := range 3 {
+		p.take(t, one[:4].member(i))
+		q.take(t, other[:3].member(i))
+	}
+	p.take(t, one.growth(4))
+	q.take(t, other[:7].growth(3))
+	p.take(t, other.member(8))
+	if err := q.take(t, other[:7].member(6)); err != api.OK {
+		t.Errorf("P2: an auditor's own log's member: %d", err)
+	}
+	if err := p.take(t, one.member(8)); err != api.OK {
+		t.Errorf("P2: an auditor's own log's member: %d", err)
+	}
 }

@@ -22,6 +22,9 @@ type Node interface {
 	Digest() int
 	// Prune gives what a proof tells of the node and of those below it.
 	Prune(rule Rule) []api.Node
+	// Cut gives the tree for version m, asked of the tree for a version that
+	// begins with it: without the nodes that have no event below m.
+	Cut(m int) Node
 }
 
 // The digest is worked out once, when a node is made: the proofs of a version
@@ -43,6 +46,12 @@ type alone struct {
 	Stretch
 	digest int
 	only   Node
+}
+
+// stub is a node that a proof left out but for its digest.
+type stub struct {
+	Stretch
+	digest int
 }
 
 // Build gives the tree of a version, which has at least one event.
@@ -79,28 +88,32 @@ func newAlone(s Stretch, only Node) alone {
 func (l leaf) Digest() int  { return l.digest }
 func (t two) Digest() int   { return t.digest }
 func (a alone) Digest() int { return a.digest }
+func (s stub) Digest() int  { return s.digest }
 
 func (l leaf) Prune(rule Rule) []api.Node {
 	if l.LeftOut(rule) {
-		return stub(l.digest)
+		return leftOut(l.digest)
 	}
 	return []api.Node{{Kind: api.Leaf, Event: l.event}}
 }
 
 func (t two) Prune(rule Rule) []api.Node {
 	if t.LeftOut(rule) {
-		return stub(t.digest)
+		return leftOut(t.digest)
 	}
 	return slices.Concat([]api.Node{{Kind: api.Two}}, t.left.Prune(rule), t.right.Prune(rule))
 }
 
 func (a alone) Prune(rule Rule) []api.Node {
 	if a.LeftOut(rule) {
-		return stub(a.digest)
+		return leftOut(a.digest)
 	}
 	return slices.Concat([]api.Node{{Kind: api.Alone}}, a.only.Prune(rule))
 }
 
-func stub(digest int) []api.Node {
+// Prune tells of a stub that it is one, whatever the rule: no more is known.
+func (s stub) Prune(rule Rule) []api.Node { return leftOut(s.digest) }
+
+func leftOut(digest int) []api.Node {
 	return []api.Node{{Kind: api.Stub, Digest: digest}}
 }

@@ -45,6 +45,9 @@ func (s Stretch) Beyond(m int) bool { return s.Start >= m }
 // version n, as there is no event for the other.
 func (s Stretch) Single(n int) bool { return s.Right().Beyond(n) }
 
+// Above tells whether a node at 0 is above the one on top of version m.
+func (s Stretch) Above(m int) bool { return s.Depth > Whole(m).Depth }
+
 // LeftOut tells whether a proof with that rule leaves the node out.
 func (s Stretch) LeftOut(rule Rule) bool { return rule(s) }
 

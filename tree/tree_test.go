@@ -1,6 +1,7 @@
 package tree
 
 import (
+	"fmt"
 	"slices"
 	"testing"
 
@@ -98,6 +99,83 @@ func TestSingle(t *testing.T) {
 	for n := 5; n <= 12; n++ {
 		if s.Single(n) != (n <= 6) {
 			t.Errorf("%v in version %d: single %v", s, n, s.Single(n))
+		}
+	}
+}
+
+// someRules gives the rules of all proofs in a version of n events.
+func someRules(n int) map[string]Rule {
+	rules := map[string]Rule{}
+	for i := range n {
+		rules[fmt.Sprint("member ", i)] = MemberRule(i)
+		rules[fmt.Sprint("growth ", i+1)] = GrowthRule(i + 1)
+	}
+	return rules
+}
+
+func numbered(n int) []string {
+	events := make([]string, n)
+	for i := range events {
+		events[i] = fmt.Sprint("event ", i)
+	}
+	return events
+}
+
+func TestPrunedIsTheTreeOfItsNodes(t *testing.T) {
+	for n := 1; n <= 40; n++ {
+		root := Build(numbered(n))
+		for name, rule := range someRules(n) {
+			nodes := root.Prune(rule)
+			top := Pruned(n, nodes)
+			if top.Digest() != root.Digest() {
+				t.Errorf("%s in %d: the digest %d, want %d", name, n, top.Digest(), root.Digest())
+			}
+			if got := top.Prune(rule); !slices.Equal(got, nodes) {
+				t.Errorf("%s in %d: the nodes %v, want %v", name, n, got, nodes)
+			}
+		}
+	}
+}
+
+func TestStretchesOfAPrunedTree(t *testing.T) {
+	top := Pruned(3, []api.Node{{Kind: api.Two}, {Kind: api.Stub, Digest: 7}, {Kind: api.Alone}, {Kind: api.Leaf, Event: "c"}}).(two)
+	if got := top.left.(stub); got != (stub{Stretch{0, 1}, 7}) {
+		t.Errorf("the stub is %v", got)
+	}
+	right := top.right.(alone)
+	if top.Stretch != (Stretch{0, 2}) || right.Stretch != (Stretch{2, 1}) || right.only.(leaf).Stretch != (Stretch{2, 0}) {
+		t.Errorf("the stretches are %v, %v, %v", top.Stretch, right.Stretch, right.only.(leaf).Stretch)
+	}
+}
+
+// A tree that is cut is the one that would have been built of fewer events.
+func TestCutOfATree(t *testing.T) {
+	events := numbered(70)
+	for n := 1; n <= len(events); n++ {
+		whole := Build(events[:n])
+		nodes := whole.Prune(func(Stretch) bool { return false })
+		for m := 1; m <= n; m++ {
+			if got, want := whole.Cut(m), Build(events[:m]); got.Digest() != want.Digest() {
+				t.Errorf("the tree for %d, cut to %d: the digest %d, want %d", n, m, got.Digest(), want.Digest())
+			}
+			grown := Pruned(n, whole.Prune(GrowthRule(m)))
+			want := Build(events[:m]).Prune(GrowthRule(m))
+			if got := grown.Cut(m).Prune(GrowthRule(m)); !slices.Equal(got, want) {
+				t.Errorf("growth from %d to %d, cut: %v, want %v", m, n, got, want)
+			}
+		}
+		if got := whole.Prune(func(Stretch) bool { return false }); !slices.Equal(got, nodes) {
+			t.Errorf("the tree for %d is another, now that it was cut", n)
+		}
+	}
+}
+
+func TestAbove(t *testing.T) {
+	for m, depth := range map[int]int{1: 0, 2: 1, 3: 2, 4: 2, 5: 3, 8: 3, 9: 4, 500: 9} {
+		for d := range 11 {
+			if got := (Stretch{Start: 0, Depth: d}).Above(m); got != (d > depth) {
+				t.Errorf("depth %d above version %d: %v", d, m, got)
+			}
 		}
 	}
 }
