@@ -8,6 +8,7 @@ import (
 	"stele/api"
 	"stele/codec"
 	"stele/tree"
+	"stele/twins"
 )
 
 // Auditor takes what holds.
@@ -21,6 +22,8 @@ type Auditor struct {
 	versions []api.Version
 	// events are in order, and each is there once.
 	events []api.Entry
+	// texts are the preimages of the trees that were taken.
+	texts twins.Texts
 }
 
 // NewAuditor makes an Auditor (P8).
@@ -76,9 +79,11 @@ func (a *Auditor) weighGrowth(m api.Message) api.Errno {
 		return api.ErrUnknown
 	}
 	grown := tree.Pruned(m.N, m.Tree)
-	if grown.Cut(m.M).Digest() != a.versions[last].Root || grown.Digest() != m.Root {
+	before := grown.Cut(m.M)
+	if before.Digest() != a.versions[last].Root || grown.Digest() != m.Root {
 		return api.ErrWrong
 	}
+	a.learnTexts(before, grown)
 	if m.N > m.M {
 		a.learnVersion(api.Version{N: m.N, Root: m.Root})
 	}
@@ -90,9 +95,11 @@ func (a *Auditor) weighMember(m api.Message) api.Errno {
 	if known < 0 {
 		return api.ErrUnknown
 	}
-	if tree.Pruned(m.N, m.Tree).Digest() != a.versions[known].Root {
+	version := tree.Pruned(m.N, m.Tree)
+	if version.Digest() != a.versions[known].Root {
 		return api.ErrWrong
 	}
+	a.learnTexts(version)
 	a.learnEvent(api.Entry{Index: m.M, Event: eventIn(m.Tree)})
 	return api.OK
 }
@@ -114,6 +121,14 @@ func (a *Auditor) learnEvent(e api.Entry) {
 	place, known := slices.BinarySearchFunc(a.events, e, compareEntries)
 	if !known {
 		a.events = slices.Insert(a.events, place, e)
+	}
+}
+
+func (a *Auditor) learnTexts(trees ...tree.Node) {
+	for _, t := range trees {
+		for _, preimage := range t.Preimages() {
+			a.texts.Add(string(preimage))
+		}
 	}
 }
 
@@ -140,4 +155,13 @@ func (a *Auditor) Events() []api.Entry {
 }
 
 // Collision shows two texts with one sum (P10).
-func (a *Auditor) Collision() ([]byte, []byte, bool) { return nil, nil, false }
+func (a *Auditor) Collision() ([]byte, []byte, bool) {
+	if a.closed() {
+		return nil, nil, false
+	}
+	first, second, ok := a.texts.Least()
+	if !ok {
+		return nil, nil, false
+	}
+	return []byte(first), []byte(second), true
+}

@@ -17,12 +17,13 @@ func letters(text string) version { return strings.Split(text, "") }
 // nothing.
 func holdTake(t *testing.T, a *stele.Auditor, why string, message []byte, want api.Errno) {
 	t.Helper()
-	versions, events := a.Versions(), a.Events()
+	versions, events, collision := a.Versions(), a.Events(), ask(a)
 	if got := a.Take(message); got != want {
 		t.Errorf("P8: %s: Take of %v = %d, want %d", why, message, got, want)
 	}
 	if want != api.OK {
 		holdKnown(t, a, versions, events)
+		holdShown(t, a, collision)
 	}
 }
 

@@ -73,7 +73,8 @@ func TestVeryGreatNumbers(t *testing.T) {
 func TestAnAuditorThatNewAuditorDidNotMake(t *testing.T) {
 	v := letters("abc")
 	made := stele.NewAuditor()
-	takeAll(t, made, v.commitment(), v.member(1))
+	twin := ofOneSum(t, "b", "c")
+	takeAll(t, made, v.commitment(), v.member(1), v.with(1, twin).member(1))
 	copied := *made
 	var none *stele.Auditor
 	for name, a := range map[string]*stele.Auditor{"nil": none, "zero": {}, "new": new(stele.Auditor), "copied": &copied} {
@@ -84,8 +85,12 @@ func TestAnAuditorThatNewAuditorDidNotMake(t *testing.T) {
 			if len(a.Versions()) != 0 || len(a.Events()) != 0 {
 				t.Errorf("P1: %s: known are %v, %v", name, a.Versions(), a.Events())
 			}
+			if first, second, ok := a.Collision(); first != nil || second != nil || ok {
+				t.Errorf("P1: %s: Collision = %q, %q, %v", name, first, second, ok)
+			}
 		}
 	}
-	holdKnown(t, made, []api.Version{{N: 3, Root: v.root()}}, []api.Entry{{Index: 1, Event: "b"}})
+	holdKnown(t, made, []api.Version{{N: 3, Root: v.root()}}, []api.Entry{{Index: 1, Event: "b"}, {Index: 1, Event: twin}})
+	holdShown(t, made, shown{leafText("b"), leafText(twin), true})
 	takeAll(t, made, v.member(2))
 }

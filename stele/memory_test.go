@@ -164,6 +164,42 @@ func TestWhatIsKnownIsNewMemory(t *testing.T) {
 	}
 }
 
+func TestWhatCollisionShowsIsNewMemory(t *testing.T) {
+	v := version{"first", "event", "third"}
+	twin := ofOneSum(t, "event", "f")
+	p := newPair()
+	for _, message := range [][]byte{v.commitment(), v.member(1), v.with(1, twin).member(1), v.growth(3), v.member(0),
+		v.with(1, ofOneSum(t, "event", "a")).member(1)} {
+		p.take(t, message)
+		first, second, _ := p.auditor.Collision()
+		again, secondAgain, _ := p.auditor.Collision()
+		before := shown{string(again), string(secondAgain), again != nil}
+		behind := bytes.Clone(second[:cap(second)])
+		spoil(first)
+		if !bytes.Equal(second[:cap(second)], behind) {
+			t.Errorf("P2: the two texts of one answer share memory")
+		}
+		spoil(second)
+		if after := (shown{string(again), string(secondAgain), again != nil}); after != before {
+			t.Errorf("P2: two answers share memory: %v, want %v", after, before)
+		}
+		holdShown(t, p.auditor, p.words.collision())
+		holdKnown(t, p.auditor, p.words.versionsByN(), p.words.eventsInOrder())
+	}
+	holdTwins(t, ask(p.auditor))
+}
+
+func TestCollisionKeepsNothingOfAMessage(t *testing.T) {
+	v := version{"first", "event", "third"}
+	twin := ofOneSum(t, "event", "f")
+	a := stele.NewAuditor()
+	for _, message := range [][]byte{v.commitment(), v.member(1), v.growth(3), v.with(1, twin).member(1), v.member(2)} {
+		takeAll(t, a, message)
+		spoil(message)
+	}
+	holdShown(t, a, shown{leafText("event"), leafText(twin), true})
+}
+
 // spoilVersions and spoilEntries write over a list and its spare room.
 
 func spoilVersions(list []api.Version) {
@@ -198,4 +234,18 @@ func TestAuditorsKnowNothingOfEachOther(t *testing.T) {
 	if err := p.take(t, one.member(8)); err != api.OK {
 		t.Errorf("P2: an auditor's own log's member: %d", err)
 	}
+}
+
+// Of two texts of one sum each auditor has taken one.
+func TestAuditorsKnowNothingOfEachOthersTexts(t *testing.T) {
+	v := version{"first", "event", "third"}
+	other := v.with(1, ofOneSum(t, "event", "f"))
+	a, b := stele.NewAuditor(), stele.NewAuditor()
+	takeAll(t, a, v.commitment(), v.member(1))
+	takeAll(t, b, other.commitment(), other.member(1))
+	holdShown(t, a, shown{})
+	holdShown(t, b, shown{})
+	takeAll(t, a, other.member(1))
+	holdTwins(t, ask(a))
+	holdShown(t, b, shown{})
 }

@@ -1,6 +1,7 @@
 package stele_test
 
 import (
+	"fmt"
 	"slices"
 	"sort"
 	"testing"
@@ -41,26 +42,44 @@ func (w prunedTree) digest(p, d, v int) int {
 	if !ok {
 		panic("a node that the tree has not")
 	}
-	switch {
-	case n.Kind == 0:
+	if n.Kind == 0 {
 		return n.Digest
+	}
+	return sumByWords(w.preimage(p, d, v))
+}
+
+// preimage is that of a node that is no stub.
+func (w prunedTree) preimage(p, d, v int) []byte {
+	switch {
 	case d == 0:
-		return sumByWords(append([]byte{0}, n.Event...))
+		return append([]byte{0}, w[spot{p, d}].Event...)
 	case p+1<<(d-1) < v:
 		text := append([]byte{1}, pairOfBytes(w.digest(p, d-1, v))...)
-		return sumByWords(append(text, pairOfBytes(w.digest(p+1<<(d-1), d-1, v))...))
+		return append(text, pairOfBytes(w.digest(p+1<<(d-1), d-1, v))...)
 	default:
-		return sumByWords(append([]byte{2}, pairOfBytes(w.digest(p, d-1, v))...))
+		return append([]byte{2}, pairOfBytes(w.digest(p, d-1, v))...)
 	}
 }
 
 func (w prunedTree) as(v int) int { return w.digest(0, depthByWords(v), v) }
+
+// preimagesAs are those that the digest as one for v is worked out of.
+func (w prunedTree) preimagesAs(v int) []string {
+	var texts []string
+	for at, n := range w {
+		if n.Kind != 0 && at.p < v && at.d <= depthByWords(v) {
+			texts = append(texts, string(w.preimage(at.p, at.d, v)))
+		}
+	}
+	return texts
+}
 
 // auditorByWords knows what an auditor is to know.
 type auditorByWords struct {
 	taken    int
 	versions []api.Version // the one known last is the last
 	events   map[api.Entry]int
+	texts    []string // in order, each once
 }
 
 func newAuditorByWords() *auditorByWords {
@@ -79,6 +98,7 @@ func (a *auditorByWords) take(message []byte) api.Errno {
 		return err
 	}
 	a.taken++
+	a.workOut(told.value)
 	switch m := told.value; {
 	case m.Kind == 1, m.Kind == 2 && m.N != m.M:
 		a.versions = append(a.versions, api.Version{N: m.N, Root: m.Root})
@@ -87,6 +107,41 @@ func (a *auditorByWords) take(message []byte) api.Errno {
 		a.events[api.Entry{Index: m.M, Event: event}]++
 	}
 	return api.OK
+}
+
+// workOut keeps the preimages of a message that is taken.
+func (a *auditorByWords) workOut(m api.Message) {
+	if m.Kind == 1 {
+		return
+	}
+	texts := prunedTreeOf(m).preimagesAs(m.N)
+	if m.Kind == 2 {
+		texts = append(texts, prunedTreeOf(m).preimagesAs(m.M)...)
+	}
+	for _, text := range texts {
+		if place := sort.SearchStrings(a.texts, text); place == len(a.texts) || a.texts[place] != text {
+			a.texts = slices.Insert(a.texts, place, text)
+		}
+	}
+}
+
+// collision is what Collision is to show.
+func (a *auditorByWords) collision() shown {
+	count := map[int]int{}
+	for _, text := range a.texts {
+		count[sumByWords([]byte(text))]++
+	}
+	var found []string
+	for _, text := range a.texts {
+		s := sumByWords([]byte(text))
+		if count[s] > 1 && (len(found) == 0 || s == sumByWords([]byte(found[0]))) {
+			found = append(found, text)
+		}
+	}
+	if len(found) == 0 {
+		return shown{}
+	}
+	return shown{found[0], found[1], true}
 }
 
 func (a *auditorByWords) refuses(m api.Message) api.Errno {
@@ -144,6 +199,7 @@ func (p *pair) take(t *testing.T, message []byte) api.Errno {
 		t.Fatalf("P8: Take of %v = %d, want %d; known are %v", message, got, want, p.words.versions)
 	}
 	holdKnown(t, p.auditor, p.words.versionsByN(), p.words.eventsInOrder())
+	holdShown(t, p.auditor, p.words.collision())
 	return want
 }
 
@@ -155,6 +211,27 @@ func holdKnown(t *testing.T, a *stele.Auditor, versions []api.Version, events []
 	}
 	if got := a.Events(); !slices.Equal(got, events) {
 		t.Fatalf("P9: Events = %v, want %v", got, events)
+	}
+}
+
+// shown is what Collision answers.
+type shown struct {
+	first, second string
+	ok            bool
+}
+
+func (s shown) String() string { return fmt.Sprintf("%q, %q, %v", s.first, s.second, s.ok) }
+
+func ask(a *stele.Auditor) shown {
+	first, second, ok := a.Collision()
+	return shown{string(first), string(second), ok}
+}
+
+// holdShown holds what Collision answers against what it is to answer.
+func holdShown(t *testing.T, a *stele.Auditor, want shown) {
+	t.Helper()
+	if got := ask(a); got != want {
+		t.Fatalf("P10: Collision = %v, want %v", got, want)
 	}
 }
 

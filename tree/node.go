@@ -5,14 +5,6 @@ import (
 
 	"stele/api"
 	"stele/sum"
-	"stele/wire"
-)
-
-// The first bytes of preimages; they are not the kinds of nodes in a message.
-const (
-	leafMark  = 0
-	twoMark   = 1
-	aloneMark = 2
 )
 
 // Node is a node of a tree. It never changes once it is made, so goroutines
@@ -25,6 +17,9 @@ type Node interface {
 	// Cut gives the tree for version m, asked of the tree for a version that
 	// begins with it: without the nodes that have no event below m.
 	Cut(m int) Node
+	// Preimages gives those of the node and of the ones below it. A stub has
+	// none: its digest is not worked out.
+	Preimages() [][]byte
 }
 
 // The digest is worked out once, when a node is made: the proofs of a version
@@ -71,17 +66,17 @@ func build(s Stretch, events []string) Node {
 }
 
 func newLeaf(s Stretch, event string) leaf {
-	digest := sum.Of([]byte{leafMark}, []byte(event))
+	digest := sum.Of(leafParts(event)...)
 	return leaf{Stretch: s, digest: digest, event: event}
 }
 
 func newTwo(s Stretch, left Node, right Node) two {
-	digest := sum.Of([]byte{twoMark}, wire.Two(left.Digest()), wire.Two(right.Digest()))
+	digest := sum.Of(twoParts(left, right)...)
 	return two{Stretch: s, digest: digest, left: left, right: right}
 }
 
 func newAlone(s Stretch, only Node) alone {
-	digest := sum.Of([]byte{aloneMark}, wire.Two(only.Digest()))
+	digest := sum.Of(aloneParts(only)...)
 	return alone{Stretch: s, digest: digest, only: only}
 }
 
